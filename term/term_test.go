@@ -315,7 +315,7 @@ func TestP2_2OfNil(t *testing.T) {
 	}
 }
 
-// TestP2_3 makes many terms of few parts, and holds that no two are the same, and that each is behind its parts.
+// It makes many terms of few parts, and holds that no two are the same, and that each is behind its parts.
 func TestP2_3DifferentTermsDifferentNumbers(t *testing.T) {
 	x := filled(t)
 	for range 2 {
