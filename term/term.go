@@ -1,22 +1,13 @@
 // Package term is layer 2: ideal cryptography's things, each with a number in a table.
 package term
 
-import "shibboleth/api"
-
-// The kinds of terms.
-const (
-	kindAny = iota // where a part may be of each kind
-	kindText
-	kindSecret
-	kindRow
-	kindHash
-	kindMac
-	kindDerived
-	kindPublic
-	kindShared
-	kindSigned
-	kindSealed
+import (
+	"shibboleth/api"
+	"shibboleth/kinds"
 )
+
+// anyKind stands where a part may be of each kind.
+const anyKind = kinds.None
 
 // Node is a term: its kind, its bytes, its parts.
 type Node struct {
@@ -48,7 +39,7 @@ func (t *Table) Text(b []byte) api.Term {
 	if t == nil || len(b) > api.MaxText {
 		return 0
 	}
-	return t.number(Node{Kind: kindText, Text: string(b)})
+	return t.number(Node{Kind: kinds.Text, Text: string(b)})
 }
 
 // Secret is a new secret's number; 0, if there is no room.
@@ -56,7 +47,7 @@ func (t *Table) Secret() api.Term {
 	if t == nil {
 		return 0
 	}
-	return t.add(Node{Kind: kindSecret})
+	return t.add(Node{Kind: kinds.Secret})
 }
 
 // Make is the number of a term of parts; 0, if it has no such form, or there is no room.
@@ -66,7 +57,7 @@ func (t *Table) Make(kind int, parts []api.Term) api.Term {
 		return 0
 	}
 	own := clone(parts)
-	if kind == kindShared {
+	if kind == kinds.Shared {
 		own = t.secrets(parts[0], parts[1])
 	}
 	return t.number(Node{Kind: kind, Parts: own})
@@ -105,7 +96,7 @@ func (t *Table) fits(kind int, parts []api.Term) bool {
 		if !t.has(h) {
 			return false
 		}
-		if asked[i] != kindAny && asked[i] != t.nodes[h-1].Kind {
+		if asked[i] != anyKind && asked[i] != t.nodes[h-1].Kind {
 			return false
 		}
 	}
@@ -115,23 +106,23 @@ func (t *Table) fits(kind int, parts []api.Term) bool {
 // asks tells of which kind each part of a term has to be, where many parts are given; false, if no parts make one.
 func asks(kind, many int) ([]int, bool) {
 	switch kind {
-	case kindRow:
+	case kinds.Row:
 		if many > api.MaxParts {
 			return nil, false
 		}
-		return make([]int, many), true // kindAny is 0
-	case kindHash:
-		return []int{kindAny}, true
-	case kindMac:
-		return []int{kindAny, kindAny}, true
-	case kindDerived, kindSealed:
-		return []int{kindAny, kindText, kindAny}, true
-	case kindPublic:
-		return []int{kindSecret}, true
-	case kindShared:
-		return []int{kindSecret, kindPublic}, true
-	case kindSigned:
-		return []int{kindSecret, kindAny}, true
+		return make([]int, many), true // anyKind is 0
+	case kinds.Hash:
+		return []int{anyKind}, true
+	case kinds.Mac:
+		return []int{anyKind, anyKind}, true
+	case kinds.Derived, kinds.Sealed:
+		return []int{anyKind, kinds.Text, anyKind}, true
+	case kinds.Public:
+		return []int{kinds.Secret}, true
+	case kinds.Shared:
+		return []int{kinds.Secret, kinds.Public}, true
+	case kinds.Signed:
+		return []int{kinds.Secret, anyKind}, true
 	}
 	return nil, false
 }
