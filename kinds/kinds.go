@@ -1,7 +1,7 @@
-// Package kinds names the kinds of terms, for each layer that makes terms or looks at them.
+// Package kinds names the kinds of terms and of frames, for each layer that makes them or looks at them.
 package kinds
 
-// The kinds, by their numbers in the document's table.
+// The kinds of terms, by their numbers in the document's table.
 const (
 	None = iota // no term has it
 	Text
@@ -14,4 +14,16 @@ const (
 	Shared
 	Signed
 	Sealed
+)
+
+// The kinds of frames, by their first bytes.
+const (
+	Padding = 0
+	Ping    = 1
+	Ack     = 2
+	Crypto  = 6
+	Token   = 7
+	Data    = 8
+	Close   = 28
+	Done    = 30
 )
