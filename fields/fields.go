@@ -1,4 +1,4 @@
-// Package fields takes bytes apart, field by field, and writes numbers of a fixed size, for each layer whose bytes are made of such.
+// Package fields takes bytes apart, field by field, and writes numbers of a fixed size, versions among them, for each layer whose bytes are made of such.
 package fields
 
 import (
@@ -7,6 +7,9 @@ import (
 	"shibboleth/api"
 	"shibboleth/varint"
 )
+
+// VersionSize is how many bytes a version has.
+const VersionSize = 4
 
 // Reader takes fields off the front of bytes. A field that can't be taken is a panic of an api.Errno: who reads recovers it once, for all fields.
 type Reader struct {
@@ -85,4 +88,14 @@ func Append(b []byte, n, size int) []byte {
 		b = append(b, byte(n>>(8*i)))
 	}
 	return b
+}
+
+// Fits: has n room in so many bytes (at most seven)?
+func Fits(n, size int) bool {
+	return n >= 0 && n < 1<<(8*size)
+}
+
+// IsVersion: may it be a version?
+func IsVersion(n int) bool {
+	return n > 0 && Fits(n, VersionSize)
 }

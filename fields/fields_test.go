@@ -92,3 +92,22 @@ func TestAppend(t *testing.T) {
 		}
 	}
 }
+
+func TestFits(t *testing.T) {
+	for size := range 8 {
+		most := 1<<(8*size) - 1
+		for n, want := range map[int]bool{-1 << 63: false, -1: false, 0: true, most: true, most + 1: false, 1<<63 - 1: false} {
+			if got := fields.Fits(n, size); got != want {
+				t.Errorf("%d in %d bytes: %t", n, size, got)
+			}
+		}
+	}
+}
+
+func TestIsVersion(t *testing.T) {
+	for n, want := range map[int]bool{-1 << 63: false, -1: false, 0: false, 1: true, 1<<32 - 1: true, 1 << 32: false, 1<<32 + 1: false, 1<<63 - 1: false} {
+		if got := fields.IsVersion(n); got != want {
+			t.Errorf("%d: %t", n, got)
+		}
+	}
+}

@@ -38,8 +38,8 @@ func (r *reader) behind() []func() {
 }
 
 func (r *reader) version() {
-	r.h.Version = r.in.Fixed(versionSize)
-	fields.Want(r.h.Version > 0, api.ErrForm)
+	r.h.Version = r.in.Fixed(fields.VersionSize)
+	fields.Want(fields.IsVersion(r.h.Version), api.ErrForm)
 }
 
 func (r *reader) to() { r.h.To = r.name() }
