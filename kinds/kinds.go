@@ -1,4 +1,4 @@
-// Package kinds names the kinds of terms and of frames, for each layer that makes them or looks at them.
+// Package kinds names the kinds of terms, of frames and of a handshake's messages, for each layer that makes them or looks at them.
 package kinds
 
 // The kinds of terms, by their numbers in the document's table.
@@ -26,4 +26,15 @@ const (
 	Data    = 8
 	Close   = 28
 	Done    = 30
+)
+
+// The kinds of a handshake's messages, by their first bytes.
+const (
+	ClientHello = 1
+	ServerHello = 2
+	Ticket      = 4
+	Params      = 8
+	Name        = 11
+	Proof       = 15
+	Finished    = 20
 )
